@@ -1,0 +1,1 @@
+"""Fivefields: moments told by five fields."""
