@@ -6,6 +6,11 @@ def has(mask, number):
     return (mask >> number) & 1 == 1
 
 
+def lowest(mask):
+    """The least number of a mask that isn't 0."""
+    return (mask & -mask).bit_length() - 1
+
+
 def starts_of(mask):
     """The numbers of a mask whose one-less is not in it, rising."""
     # Shifted up by one, the mask tells the next numbers of its own ones; so 0 needs no case of its own.

@@ -3,7 +3,7 @@
 import random
 import unittest
 
-from fivefields.ranges import ranges_of, shown_ranges, starts_of
+from fivefields.ranges import lowest, ranges_of, shown_ranges, starts_of
 
 ALL = 2 ** 64 - 1
 
@@ -72,6 +72,13 @@ class Ranges(unittest.TestCase):
         for mask in some_masks():
             texts = [str(first) if first == last else f"{first}-{last}" for first, last in ranges_of(mask)]
             self.assertEqual(shown_ranges(mask), ",".join(texts))
+
+    def test_lowest(self):
+        for mask in some_masks():
+            if mask != 0:
+                self.assertEqual(lowest(mask), starts_of(mask)[0])
+        for number in range(100):
+            self.assertEqual(lowest(5 << number), number)
 
     def test_told_lists_are_the_askers_own(self):
         for asked in (ranges_of, starts_of):
