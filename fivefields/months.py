@@ -2,6 +2,7 @@
 
 from fivefields.days import day_of, is_long, last_of, weekday
 
+KINDS = 91
 # The February of a long year has a place of its own, behind December's.
 LONG_PLACE = 12
 LONG_LAST = 29
@@ -30,3 +31,17 @@ def next_of_kind(kind, year):
     while kind_of(year, month) != kind:
         year = year + 1
     return year
+
+
+def next_month(year, month):
+    """The month behind a month, as a tuple (year, month)."""
+    if month == 12:
+        return (year + 1, 1)
+    return (year, month + 1)
+
+
+def month_before(year, month):
+    """The month ahead of a month, as a tuple (year, month)."""
+    if month == 1:
+        return (year - 1, 12)
+    return (year, month - 1)

@@ -103,7 +103,8 @@ class RowsFor(unittest.TestCase):
 
     def test_one_minute(self):
         for hour, minute in ((0, 0), (0, 59), (23, 0), (23, 59), (9, 30)):
-            self.assertEqual(self.promised(times_from([(hour, minute)])), ([(2 ** hour, 2 ** minute)], [(hour, minute)]))
+            told = self.promised(times_from([(hour, minute)]))
+            self.assertEqual(told, ([(2 ** hour, 2 ** minute)], [(hour, minute)]))
 
     def test_all_minutes_of_a_day(self):
         rows, pairs = self.promised(ALL)
@@ -155,7 +156,7 @@ class RowsFor(unittest.TestCase):
     def test_hours_masks_that_lie_within_one_another(self):
         rows, pairs = self.promised(times_from((hour, minute) for hour in range(24) for minute in range(hour + 1)))
         self.assertEqual((len(rows), len(pairs)), (24, 24))
-        rows, pairs = self.promised(times_from((hour, minute) for hour in range(24) for minute in range(0, 60 - 2 * hour)))
+        rows, pairs = self.promised(times_from((hour, minute) for hour in range(24) for minute in range(60 - 2 * hour)))
         self.assertEqual((len(rows), len(pairs)), (24, 24))
         # Two apart, and around them one that is made and one that isn't.
         cells = [(0, 1), (1, 2), (2, 1), (2, 2), (3, 1), (3, 2), (3, 3)]

@@ -300,8 +300,9 @@ class Refusing(unittest.TestCase):
             "", " ", "0", "32", "0-5", "1-32", "5-1", "00", "01", "1-05", "05/2", "5/0", "5/100", "*/", "l", "lw", "lW",
             "Lw", "15w", "l-3", "L-", "L-0", "L-31", "L-03", "L-00", "L3", "L--3", "L-3W", "L+3", "W", "0W", "32W",
             "015W", "05W", "-1W", "1-5W", "*W", "WL", "15 W", "15W ", " 15W", " L", "L ", "L\n", "L\t", "LL", "LWW",
-            "LW-1", "WLW", "1L", "5#2", "1#1", "5L", "L/2", "LW/2", "L-3/2", "15W/2", "?", "mon", "*L", "L*", "L-*", "**",
-            "L-\u0663", "\u0661W", "L-1-2", "LW1", "1LW", "9" * 250 + "W", "L-" + "9" * 250), ("*", "L", "3W", "1/2"))
+            "LW-1", "WLW", "1L", "5#2", "1#1", "5L", "L/2", "LW/2", "L-3/2", "15W/2", "?", "mon", "*L", "L*", "L-*",
+            "**", "L-\u0663", "\u0661W", "L-1-2", "LW1", "1LW", "9" * 250 + "W", "L-" + "9" * 250),
+            ("*", "L", "3W", "1/2"))
 
     def test_wrong_items_of_weekdays(self):
         self.wrong_items(read_weekdays, (
@@ -389,7 +390,8 @@ class Showing(unittest.TestCase):
                 self.assertEqual(any_days(once_more, last, first), any_days(marks, last, first), text)
 
     def test_read_shown_and_read_again(self):
-        for text in ("*", "*,5", "*/1", "L", "L,5,LW,1-2,15W", "1/2", "31W,L-30,LW,LW", ",".join(["L-30"] * 20 + ["1/2"])):
+        for text in ("*", "*,5", "*/1", "L", "L,5,LW,1-2,15W", "1/2", "31W,L-30,LW,LW",
+                     ",".join(["L-30"] * 20 + ["1/2"])):
             self.again(read_days, text)
         for text in ("*", "*,5", "*/7", "5/2", "7", "7L", "7#5,1", "1-7", "0,2,4,6," + ",".join(["7#5"] * 20)):
             self.again(read_weekdays, text)

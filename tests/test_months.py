@@ -4,7 +4,8 @@ import datetime
 import unittest
 
 from fivefields.days import day_of, is_long, last_of, weekday
-from fivefields.months import kind_of, month_at, next_of_kind
+from fivefields.months import KINDS as ALL_KINDS
+from fivefields.months import kind_of, month_at, month_before, next_month, next_of_kind
 
 SHORT_YEAR = [31, 28, 31, 30, 31, 30, 31, 31, 30, 31, 30, 31]
 KINDS = range(91)
@@ -57,6 +58,18 @@ class Kinds(unittest.TestCase):
                 for month in range(1, 13):
                     told = (month, last_of(year, month), weekday(day_of(year, month, 1)))
                     self.assertEqual(month_at(kind_of(year, month)), told)
+
+
+class Neighbours(unittest.TestCase):
+    def test_the_months_of_some_years_there_and_back(self):
+        for first in (0, 2024, -3, 10 ** 60, -10 ** 60):
+            months = [(year, month) for year in (first, first + 1) for month in range(1, 13)]
+            for one, other in zip(months, months[1:]):
+                self.assertEqual(next_month(*one), other)
+                self.assertEqual(month_before(*other), one)
+
+    def test_how_many_kinds(self):
+        self.assertEqual(ALL_KINDS, len(KINDS))
 
 
 class NextOfKind(unittest.TestCase):

@@ -262,7 +262,8 @@ class Holding(unittest.TestCase):
             row = read_row(text)
             words = text.split(" ")
             for turn_too in range(40):
-                moment = chance.choice((0, 10 ** 59, -10 ** 59, 10 ** 60 - 10 ** 9, -10 ** 60)) + chance.randint(0, 10 ** 9)
+                start = chance.choice((0, 10 ** 59, -10 ** 59, 10 ** 60 - 10 ** 9, -10 ** 60))
+                moment = start + chance.randint(0, 10 ** 9)
                 day, hour, minute = parted(moment)
                 year, month, of_month = date_of(day)
                 kind = kind_of(year, month)
