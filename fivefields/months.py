@@ -1,6 +1,6 @@
 """The ninety-one kinds of months."""
 
-from fivefields.days import day_of, is_long, last_of, weekday
+from fivefields.days import ROUND_YEARS, day_of, is_long, last_of, weekday
 
 KINDS = 91
 # The February of a long year has a place of its own, behind December's.
@@ -9,10 +9,15 @@ LONG_LAST = 29
 SHORT_YEAR = 1
 
 
+def kind_from(year, month, day):
+    """The kind of a year's month whose first day that one is."""
+    place = LONG_PLACE if month == 2 and is_long(year) else month - 1
+    return 7 * place + weekday(day)
+
+
 def kind_of(year, month):
     """The kind of a year's month."""
-    place = LONG_PLACE if month == 2 and is_long(year) else month - 1
-    return 7 * place + weekday(day_of(year, month, 1))
+    return kind_from(year, month, day_of(year, month, 1))
 
 
 def month_at(kind):
@@ -45,3 +50,15 @@ def month_before(year, month):
     if month == 1:
         return (year - 1, 12)
     return (year, month - 1)
+
+
+def months_of_round():
+    """The months of 400 years, from year 0 on, each as a tuple (first day, kind)."""
+    found = []
+    day = 0
+    for year in range(ROUND_YEARS):
+        for month in range(1, 13):
+            kind = kind_from(year, month, day)
+            found.append((day, kind))
+            day = day + last_of(year, month)
+    return found

@@ -5,7 +5,7 @@ import unittest
 
 from fivefields.days import day_of, is_long, last_of, weekday
 from fivefields.months import KINDS as ALL_KINDS
-from fivefields.months import kind_of, month_at, month_before, next_month, next_of_kind
+from fivefields.months import kind_of, month_at, month_before, months_of_round, next_month, next_of_kind
 
 SHORT_YEAR = [31, 28, 31, 30, 31, 30, 31, 31, 30, 31, 30, 31]
 KINDS = range(91)
@@ -115,6 +115,12 @@ class NextOfKind(unittest.TestCase):
                 later = next_of_kind(kind, year + 1)
                 self.assertLessEqual(day_of(later, month, 1) - day_of(year, month, 1), most)
                 year = later
+
+
+class Round(unittest.TestCase):
+    def test_its_months(self):
+        months = [(year, month) for year in range(400) for month in range(1, 13)]
+        self.assertEqual(months_of_round(), [(day_of(year, month, 1), kind_of(year, month)) for year, month in months])
 
 
 if __name__ == "__main__":
