@@ -20,7 +20,7 @@ def least_reach(mask, enough):
         fills.append(fills[-1] | (fills[-1] << (1 << (len(fills) - 1))))
     filled = 0
     reach = 0
-    for step in reversed(range(len(fills) - 1)):
+    for step in range(len(fills) - 2, -1, -1):
         wider = filled | (fills[step] << reach)
         if not enough(wider):
             filled = wider
