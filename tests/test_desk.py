@@ -297,7 +297,7 @@ class Refused(unittest.TestCase):
             self.refuse(f"nth work 2024-12-25 09:00 {number}", NoWord)
             self.refuse(f"clock {number}", NoWord)
             self.refuse(f"put {number} {AUTUMN}", NoWord)
-            self.refuse(f"clock -{number}", NoWord) if number != "-" else None
+            self.refuse(f"clock -{number}", NoWord)
             # Ahead of all else that is wrong.
             self.refuse(f"nth gone 2024-13-25 09:00 {number}", NoWord)
             self.refuse(f"put {number} nothing", NoWord)
